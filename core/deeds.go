@@ -1,0 +1,58 @@
+package core
+
+import "cloister/api"
+
+// deeds: what is done for each op, by its number. There is none for 0, which
+// is no op's.
+func deeds() [api.OpNop + 1]func(*step) {
+	return [...]func(*step){
+		api.OpAdd:   (*step).add,
+		api.OpSub:   (*step).subtract,
+		api.OpMul:   (*step).multiply,
+		api.OpDivu:  (*step).divide,
+		api.OpRemu:  (*step).remain,
+		api.OpAnd:   (*step).and,
+		api.OpOr:    (*step).or,
+		api.OpXor:   (*step).differ,
+		api.OpShl:   (*step).moveLeft,
+		api.OpShr:   (*step).moveRight,
+		api.OpSar:   (*step).moveSigned,
+		api.OpSlt:   (*step).compareSigned,
+		api.OpSltu:  (*step).compare,
+		api.OpAddi:  (*step).add,
+		api.OpAndi:  (*step).and,
+		api.OpOri:   (*step).or,
+		api.OpXori:  (*step).differ,
+		api.OpShli:  (*step).moveLeft,
+		api.OpShri:  (*step).moveRight,
+		api.OpSari:  (*step).moveSigned,
+		api.OpSlti:  (*step).compareSigned,
+		api.OpSltui: (*step).compare,
+		api.OpLui:   (*step).upper,
+		api.OpLb:    (*step).loadSignedByte,
+		api.OpLbu:   (*step).loadByte,
+		api.OpLh:    (*step).loadSignedHalf,
+		api.OpLhu:   (*step).loadHalf,
+		api.OpLw:    (*step).loadWord,
+		api.OpSb:    (*step).storeByte,
+		api.OpSh:    (*step).storeHalf,
+		api.OpSw:    (*step).storeWord,
+		api.OpBeq:   (*step).goIfSame,
+		api.OpBne:   (*step).goIfNotSame,
+		api.OpBlt:   (*step).goIfLessSigned,
+		api.OpBge:   (*step).goIfNotLessSigned,
+		api.OpBltu:  (*step).goIfLess,
+		api.OpBgeu:  (*step).goIfNotLess,
+		api.OpJal:   (*step).call,
+		api.OpJalr:  (*step).callAt,
+		api.OpHcall: (*step).trap,
+		api.OpClock: (*step).readClock,
+		api.OpWait:  (*step).wait,
+		api.OpEi:    (*step).allow,
+		api.OpDi:    (*step).forbid,
+		api.OpEret:  (*step).comeBack,
+		api.OpVec:   (*step).setVector,
+		api.OpHalt:  (*step).halt,
+		api.OpNop:   (*step).nothing,
+	}
+}
