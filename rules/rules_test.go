@@ -86,6 +86,35 @@ func TestImports(t *testing.T) {
 	}
 }
 
+// standsOn: which layers those that are built may call beside api, by the words
+// of their chapters.
+func standsOn() map[string]string {
+	return map[string]string{
+		"wire": "", "memory": "", "cache": "", "entry": "", "tlb": "", "gic": "", "isa": "", "graph": "", "sampling": "",
+		"arena":  "memory",
+		"tables": "memory entry arena",
+		"mmu":    "memory cache entry tlb tables",
+		"asm":    "isa",
+		"core":   "isa",
+		"config": "wire",
+		"valid":  "cache tables",
+	}
+}
+
+func TestStandsOn(t *testing.T) {
+	on := standsOn()
+	for _, f := range programFiles(t) {
+		below, built := on[f.folder]
+		for _, spec := range f.tree.Imports {
+			path, _ := strconv.Unquote(spec.Path.Value)
+			own, isOwn := strings.CutPrefix(path, module+"/")
+			if built && isOwn && own != "api" && !slices.Contains(strings.Fields(below), own) {
+				t.Errorf("%s: %s does not stand on %s", f.path, f.folder, own)
+			}
+		}
+	}
+}
+
 func TestLayout(t *testing.T) {
 	for _, f := range programFiles(t) {
 		if want, err := format.Source(f.source); err != nil || !bytes.Equal(want, f.source) {
