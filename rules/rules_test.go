@@ -98,6 +98,7 @@ func standsOn() map[string]string {
 		"core":   "isa",
 		"config": "wire",
 		"valid":  "cache tables",
+		"boot":   "config valid memory arena tables cache tlb mmu gic hours sampling queuing",
 	}
 }
 
