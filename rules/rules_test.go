@@ -99,6 +99,7 @@ func standsOn() map[string]string {
 		"config": "wire",
 		"valid":  "cache tables",
 		"boot":   "config valid memory arena tables cache tlb mmu gic hours sampling queuing",
+		"hyper":  "boot valid mmu gic hours sampling queuing",
 	}
 }
 
