@@ -97,6 +97,7 @@ func standsOn() map[string]string {
 		"asm":     "isa",
 		"core":    "isa",
 		"config":  "wire",
+		"trace":   "wire",
 		"valid":   "cache tables",
 		"boot":    "config valid memory arena tables cache tlb mmu gic hours sampling queuing",
 		"hyper":   "boot valid mmu gic hours sampling queuing",
