@@ -91,17 +91,18 @@ func TestImports(t *testing.T) {
 func standsOn() map[string]string {
 	return map[string]string{
 		"wire": "", "memory": "", "cache": "", "entry": "", "tlb": "", "gic": "", "isa": "", "graph": "", "sampling": "", "queuing": "", "hours": "",
-		"arena":   "memory",
-		"tables":  "memory entry arena",
-		"mmu":     "memory cache entry tlb tables",
-		"asm":     "isa",
-		"core":    "isa",
-		"config":  "wire",
-		"trace":   "wire",
-		"valid":   "cache tables",
-		"boot":    "config valid memory arena tables cache tlb mmu gic hours sampling queuing",
-		"hyper":   "boot valid mmu gic hours sampling queuing",
-		"monitor": "config boot valid hours gic core mmu cache tlb memory tables sampling queuing hyper",
+		"arena":    "memory",
+		"tables":   "memory entry arena",
+		"mmu":      "memory cache entry tlb tables",
+		"asm":      "isa",
+		"core":     "isa",
+		"config":   "wire",
+		"trace":    "wire",
+		"valid":    "cache tables",
+		"boot":     "config valid memory arena tables cache tlb mmu gic hours sampling queuing",
+		"hyper":    "boot valid mmu gic hours sampling queuing",
+		"monitor":  "config boot valid hours gic core mmu cache tlb memory tables sampling queuing hyper",
+		"snapshot": "wire monitor",
 	}
 }
 
