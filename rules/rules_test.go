@@ -103,6 +103,7 @@ func standsOn() map[string]string {
 		"hyper":    "boot valid mmu gic hours sampling queuing",
 		"monitor":  "config boot valid hours gic core mmu cache tlb memory tables sampling queuing hyper",
 		"snapshot": "wire monitor",
+		"deck":     "asm",
 	}
 }
 
