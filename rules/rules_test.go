@@ -104,6 +104,7 @@ func standsOn() map[string]string {
 		"monitor":  "config boot valid hours gic core mmu cache tlb memory tables sampling queuing hyper",
 		"snapshot": "wire monitor",
 		"deck":     "asm",
+		"lab":      "config graph monitor trace snapshot deck",
 	}
 }
 
