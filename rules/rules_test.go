@@ -105,6 +105,7 @@ func standsOn() map[string]string {
 		"snapshot": "wire monitor",
 		"deck":     "asm",
 		"lab":      "config graph monitor trace snapshot deck",
+		"audit":    "valid hours",
 	}
 }
 
