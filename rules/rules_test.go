@@ -90,7 +90,7 @@ func TestImports(t *testing.T) {
 // of their chapters.
 func standsOn() map[string]string {
 	return map[string]string{
-		"wire": "", "memory": "", "cache": "", "entry": "", "tlb": "", "gic": "", "isa": "", "graph": "", "sampling": "", "queuing": "", "hours": "",
+		"wire": "", "memory": "", "cache": "", "entry": "", "tlb": "", "gic": "", "isa": "", "graph": "", "sampling": "", "queuing": "", "hours": "", "rill": "",
 		"arena":    "memory",
 		"tables":   "memory entry arena",
 		"mmu":      "memory cache entry tlb tables",
