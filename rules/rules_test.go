@@ -106,6 +106,7 @@ func standsOn() map[string]string {
 		"deck":     "asm",
 		"lab":      "config graph monitor trace snapshot deck",
 		"audit":    "valid hours",
+		"mean":     "rill",
 	}
 }
 
