@@ -190,7 +190,7 @@ func TestAnyRun(t *testing.T) {
 	t.Parallel()
 	random := rand.New(rand.NewSource(2802))
 	ends, done := map[api.Errno]int{}, map[string]int{}
-	for range 20000 {
+	for range 12000 {
 		x := anyTree(random, random.Intn(2) == 0)
 		got, all := holdRun(t, x, []int{random.Intn(30), random.Intn(300), random.Intn(3000)}[random.Intn(3)], anyAnswers(random))
 		ends[got.e]++
@@ -199,7 +199,7 @@ func TestAnyRun(t *testing.T) {
 		}
 	}
 	for _, e := range []api.Errno{api.OK, api.ErrMeanFuel} {
-		if ends[e] < 2000 {
+		if ends[e] < 1500 {
 			t.Errorf("only %d come to %d", ends[e], e)
 		}
 	}

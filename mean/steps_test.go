@@ -93,7 +93,7 @@ func TestFuelCuts(t *testing.T) {
 	t.Parallel()
 	random := rand.New(rand.NewSource(2803))
 	whole, cut := 0, 0
-	for range 600 {
+	for range 400 {
 		x, answers := anyTree(random, random.Intn(2) == 0), anyAnswers(random)
 		most := random.Intn(200)
 		last := run(x, most, answers)
@@ -114,7 +114,7 @@ func TestFuelCuts(t *testing.T) {
 			}
 		}
 	}
-	if whole < 5000 || cut < 5000 {
+	if whole < 4000 || cut < 4000 {
 		t.Errorf("only %d are whole, %d are cut", whole, cut)
 	}
 }
